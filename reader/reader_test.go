@@ -1,0 +1,54 @@
+package reader
+
+import (
+	"errors"
+	"strings"
+	"testing"
+
+	"segments/api"
+	"segments/poly"
+)
+
+func TestPolynomialReads(t *testing.T) {
+	var want poly.Poly
+	want[2][4] = 2
+	want[0][0] = 6
+	if p, errno, place := Polynomial(" 2u3xu x - 1 "); p != want || errno != api.OK || place != 0 {
+		t.Errorf("Polynomial = %v, %d, %d, want %v", p, errno, place, want)
+	}
+}
+
+func TestPolynomialGivesNothingWithAnError(t *testing.T) {
+	for _, text := range []string{"x+u+", "x+x5", "x+" + strings.Repeat(" ", api.MaxLine)} {
+		if p, errno, _ := Polynomial(text); p != (poly.Poly{}) || errno == api.OK {
+			t.Errorf("Polynomial(%.20q) = %v, %d, want the polynomial 0 and an error", text, p, errno)
+		}
+	}
+}
+
+func TestReadingGivesUpWithAFault(t *testing.T) {
+	defer func() {
+		err, _ := recover().(error)
+		var f fault
+		if !errors.As(err, &f) || f != (fault{api.ErrDegree, 2}) {
+			t.Errorf("gave up with %v, want ErrDegree at 2", err)
+		}
+	}()
+	begin("x2x3").polynomial()
+}
+
+func TestTokens(t *testing.T) {
+	text := " 123u 4x56+-A"
+	want := []token{
+		{number, 1, 3, 12}, {number, 3, 4, 3}, {powerU, 4, 5, 1}, {number, 6, 7, 4}, {powerX, 7, 9, 5},
+		{number, 9, 10, 6}, {plus, 10, 11, 0}, {minus, 11, 12, 0}, {other, 12, 13, 0}, {end, 13, 13, 0}, {end, 13, 13, 0},
+	}
+	at := 0
+	for _, w := range want {
+		got := tokenAt(text, at)
+		if got != w {
+			t.Fatalf("token from %d on = %v, want %v", at, got, w)
+		}
+		at = got.behind
+	}
+}
