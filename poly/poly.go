@@ -30,15 +30,10 @@ func (p Poly) Plus(t Term) Poly {
 
 // Value is what p comes to with any numbers in the place of u and x.
 func (p Poly) Value(u, x int) int {
-	// Reduced first, so that no product can overflow.
-	u, x = Mod(u), Mod(x)
+	at, x := p.At(u), Mod(x)
 	sum := 0
-	for i := api.MaxX; i >= 0; i-- {
-		row := 0
-		for j := api.MaxU; j >= 0; j-- {
-			row = Mod(row*u + p[i][j])
-		}
-		sum = Mod(sum*x + row)
+	for power := api.MaxX; power >= 0; power-- {
+		sum = Mod(sum*x + at[power][0])
 	}
 	return sum
 }

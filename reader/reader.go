@@ -6,6 +6,8 @@ import (
 	"strconv"
 
 	"segments/api"
+	"segments/command"
+	"segments/names"
 	"segments/poly"
 )
 
@@ -21,12 +23,23 @@ func (f fault) Error() string {
 
 // reader goes through a text from the left, one token ahead of what is taken.
 type reader struct {
-	text string
-	next token
+	text  string
+	names names.Names // only asked, so that a wrong line changes nothing
+	next  token
 }
 
 // Polynomial reads text as one polynomial.
-func Polynomial(text string) (p poly.Poly, errno api.Errno, place int) {
+func Polynomial(text string) (poly.Poly, api.Errno, int) {
+	return read(&reader{text: text}, (*reader).polynomial)
+}
+
+// Line reads text as a line, in which names mean what n has.
+func Line(text string, n names.Names) (command.Command, api.Errno, int) {
+	return read(&reader{text: text, names: n}, (*reader).line)
+}
+
+// read has the whole text read by one of r's methods.
+func read[T any](r *reader, whole func(*reader) T) (result T, errno api.Errno, place int) {
 	defer func() {
 		thrown := recover()
 		if thrown == nil {
@@ -35,24 +48,30 @@ func Polynomial(text string) (p poly.Poly, errno api.Errno, place int) {
 		if err, ok := thrown.(error); ok {
 			var f fault
 			if errors.As(err, &f) {
-				p, errno, place = poly.Poly{}, f.errno, f.place
+				var nothing T
+				result, errno, place = nothing, f.errno, f.place
 				return
 			}
 		}
 		// Not a fault of the text: it must not pass for one.
 		panic(thrown)
 	}()
-	r := begin(text)
-	p = r.polynomial()
-	r.finish()
-	return p, api.OK, 0
+	r.begin()
+	result = whole(r)
+	r.expect(end)
+	return result, api.OK, 0
 }
 
-func begin(text string) *reader {
-	if len(text) > api.MaxLine {
-		panic(fault{errno: api.ErrLong, place: 0})
+// fail gives up, from however deep inside.
+func fail(errno api.Errno, place int) {
+	panic(fault{errno: errno, place: place})
+}
+
+func (r *reader) begin() {
+	if len(r.text) > api.MaxLine {
+		fail(api.ErrLong, 0)
 	}
-	return &reader{text: text, next: tokenAt(text, 0)}
+	r.next = tokenAt(r.text, 0)
 }
 
 // take goes on to the token behind the next one.
@@ -62,62 +81,10 @@ func (r *reader) take() token {
 	return taken
 }
 
-// fail gives up at the next token.
-func (r *reader) fail(errno api.Errno) {
-	panic(fault{errno: errno, place: r.next.place})
-}
-
-func (r *reader) finish() {
-	if r.next.kind != end {
-		r.fail(api.ErrForm)
+// expect takes the next token, which may be of no other kind.
+func (r *reader) expect(k kind) token {
+	if r.next.kind != k {
+		fail(api.ErrForm, r.next.place)
 	}
-}
-
-func (r *reader) polynomial() poly.Poly {
-	var sum poly.Poly
-	negative := r.next.kind == minus
-	if negative {
-		r.take()
-	}
-	for {
-		t := r.term()
-		if negative {
-			t.Number = -t.Number
-		}
-		sum = sum.Plus(t)
-		if r.next.kind != plus && r.next.kind != minus {
-			return sum
-		}
-		negative = r.take().kind == minus
-	}
-}
-
-func (r *reader) term() poly.Term {
-	t := poly.Term{Number: 1}
-	switch r.next.kind {
-	case number:
-		t.Number = r.take().value
-	case powerU, powerX:
-		// Its powers are read below: a term without a number counts once.
-	default:
-		r.fail(api.ErrForm)
-	}
-	for r.next.kind == powerU || r.next.kind == powerX {
-		t = r.power(t)
-	}
-	return t
-}
-
-// power is t times the power that stands next.
-func (r *reader) power(t poly.Term) poly.Term {
-	if r.next.kind == powerU {
-		t.U += r.next.value
-	} else {
-		t.X += r.next.value
-	}
-	if t.U > api.MaxU || t.X > api.MaxX {
-		r.fail(api.ErrDegree)
-	}
-	r.take()
-	return t
+	return r.take()
 }

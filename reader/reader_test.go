@@ -34,14 +34,17 @@ func TestReadingGivesUpWithAFault(t *testing.T) {
 			t.Errorf("gave up with %v, want ErrDegree at 2", err)
 		}
 	}()
-	begin("x2x3").polynomial()
+	r := &reader{text: "x2x3"}
+	r.begin()
+	r.polynomial()
 }
 
 func TestTokens(t *testing.T) {
-	text := " 123u 4x56+-A"
+	text := " 123u 4x56+-AZ,=@["
 	want := []token{
 		{number, 1, 3, 12}, {number, 3, 4, 3}, {powerU, 4, 5, 1}, {number, 6, 7, 4}, {powerX, 7, 9, 5},
-		{number, 9, 10, 6}, {plus, 10, 11, 0}, {minus, 11, 12, 0}, {other, 12, 13, 0}, {end, 13, 13, 0}, {end, 13, 13, 0},
+		{number, 9, 10, 6}, {plus, 10, 11, 0}, {minus, 11, 12, 0}, {name, 12, 13, 0}, {name, 13, 14, 0}, {comma, 14, 15, 0},
+		{equals, 15, 16, 0}, {other, 16, 17, 0}, {other, 17, 18, 0}, {end, 18, 18, 0}, {end, 18, 18, 0},
 	}
 	at := 0
 	for _, w := range want {

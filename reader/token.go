@@ -8,9 +8,12 @@ const (
 	number             // one or two digits
 	powerU             // u, with or without a digit
 	powerX             // x, with or without a digit
+	name               // A to Z
 	plus
 	minus
-	other // a byte that may stand nowhere in a polynomial
+	comma
+	equals
+	other // a byte for which there is no place anywhere
 )
 
 // token is a piece of a text: the bytes from place up to behind.
@@ -36,12 +39,25 @@ func tokenAt(text string, at int) token {
 		return powerAt(text, at, powerU)
 	case c == 'x':
 		return powerAt(text, at, powerX)
-	case c == '+':
-		return token{kind: plus, place: at, behind: at + 1}
-	case c == '-':
-		return token{kind: minus, place: at, behind: at + 1}
 	}
-	return token{kind: other, place: at, behind: at + 1}
+	return token{kind: kindOf(text[at]), place: at, behind: at + 1}
+}
+
+// kindOf is the kind of a token that is always just one byte.
+func kindOf(c byte) kind {
+	switch {
+	case 'A' <= c && c <= 'Z':
+		return name
+	case c == '+':
+		return plus
+	case c == '-':
+		return minus
+	case c == ',':
+		return comma
+	case c == '=':
+		return equals
+	}
+	return other
 }
 
 // numberAt stops behind two digits: a third one is left to be a token of its
@@ -62,6 +78,14 @@ func powerAt(text string, at int, k kind) token {
 		t.behind++
 	}
 	return t
+}
+
+// wordEnd is the place behind the small letters that stand at place.
+func wordEnd(text string, place int) int {
+	for place < len(text) && 'a' <= text[place] && text[place] <= 'z' {
+		place++
+	}
+	return place
 }
 
 func isDigit(text string, at int) bool {
