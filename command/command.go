@@ -3,6 +3,7 @@ package command
 
 import (
 	"segments/names"
+	"segments/set"
 	"segments/system"
 )
 
@@ -59,4 +60,40 @@ type Split struct {
 
 func (c Split) Do(names.Names) string {
 	return c.System.Split()
+}
+
+// Collect makes a name mean the set that a tree comes to, whatever it meant before.
+type Collect struct {
+	Name byte
+	Tree set.Node
+}
+
+func (c Collect) Do(n names.Names) string {
+	return Give{Name: c.Name, Meaning: set.Of(c.Tree)}.Do(n)
+}
+
+// Has answers whether a number is in a set.
+type Has struct {
+	Set    set.Set
+	Number int
+}
+
+func (c Has) Do(names.Names) string {
+	return yesOrNo(c.Set.Has(c.Number))
+}
+
+// Within answers whether all of the first set is in the second.
+type Within struct {
+	First, Second set.Set
+}
+
+func (c Within) Do(names.Names) string {
+	return yesOrNo(c.First.Within(c.Second))
+}
+
+func yesOrNo(yes bool) string {
+	if yes {
+		return "yes"
+	}
+	return "no"
 }

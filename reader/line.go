@@ -3,6 +3,8 @@ package reader
 import (
 	"segments/api"
 	"segments/command"
+	"segments/names"
+	"segments/set"
 	"segments/system"
 )
 
@@ -10,17 +12,29 @@ func (r *reader) line() command.Command {
 	place := r.next.place
 	switch r.word() {
 	case "let":
-		return r.let()
+		n := r.newName()
+		return command.Give{Name: n, Meaning: r.system()}
 	case "print":
-		return command.Tell{Meaning: r.namedSystem()}
+		return command.Tell{Meaning: named[system.System](r)}
 	case "gcd":
-		s := r.namedSystem()
+		s := named[system.System](r)
 		return command.Divisor{System: s, U: r.expect(number).value}
 	case "roots":
-		s := r.namedSystem()
+		s := named[system.System](r)
 		return command.Roots{System: s, U: r.expect(number).value}
 	case "split":
-		return command.Split{System: r.namedSystem()}
+		return command.Split{System: named[system.System](r)}
+	case "set":
+		n := r.newName()
+		return command.Collect{Name: n, Tree: r.set()}
+	case "show":
+		return command.Tell{Meaning: named[set.Set](r)}
+	case "has":
+		s := named[set.Set](r)
+		return command.Has{Set: s, Number: r.expect(number).value}
+	case "sub":
+		s := named[set.Set](r)
+		return command.Within{First: s, Second: named[set.Set](r)}
 	}
 	fail(api.ErrWord, place)
 	return nil
@@ -35,10 +49,11 @@ func (r *reader) word() string {
 	return r.text[place:behind]
 }
 
-func (r *reader) let() command.Command {
+// newName takes a name that is about to mean something, and the = behind it.
+func (r *reader) newName() byte {
 	n := r.expect(name)
 	r.expect(equals)
-	return command.Give{Name: r.text[n.place], Meaning: r.system()}
+	return r.text[n.place]
 }
 
 func (r *reader) system() system.System {
@@ -52,12 +67,11 @@ func (r *reader) system() system.System {
 	return s
 }
 
-// namedSystem takes a name, which must mean a system.
-func (r *reader) namedSystem() system.System {
+// named takes a name, which must mean a T.
+func named[T names.Meaning](r *reader) T {
 	n := r.expect(name)
-	s, ok := r.names[r.text[n.place]].(system.System)
-	if !ok {
-		fail(api.ErrName, n.place)
+	if meaning, ok := r.names[r.text[n.place]].(T); ok {
+		return meaning
 	}
-	return s
+	panic(fault{errno: api.ErrName, place: n.place})
 }

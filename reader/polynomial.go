@@ -41,6 +41,10 @@ func (r *reader) term() poly.Term {
 // power is t times the power that stands next.
 func (r *reader) power(t poly.Term) poly.Term {
 	taken := r.take()
+	// Ahead of what the power makes: any x is wrong here, however low.
+	if r.onlyU && taken.kind == powerX {
+		fail(api.ErrParam, taken.place)
+	}
 	if taken.kind == powerU {
 		t.U += taken.value
 	} else {

@@ -26,6 +26,8 @@ type reader struct {
 	text  string
 	names names.Names // only asked, so that a wrong line changes nothing
 	next  token
+	deep  int  // how many ~ and ( are open
+	onlyU bool // inside of [ and ], where x may not stand
 }
 
 // Polynomial reads text as one polynomial.

@@ -40,11 +40,13 @@ func TestReadingGivesUpWithAFault(t *testing.T) {
 }
 
 func TestTokens(t *testing.T) {
-	text := " 123u 4x56+-AZ,=@["
+	text := " 123u 4x56+-AZ,=@|&~()[]{}\\"
 	want := []token{
 		{number, 1, 3, 12}, {number, 3, 4, 3}, {powerU, 4, 5, 1}, {number, 6, 7, 4}, {powerX, 7, 9, 5},
 		{number, 9, 10, 6}, {plus, 10, 11, 0}, {minus, 11, 12, 0}, {name, 12, 13, 0}, {name, 13, 14, 0}, {comma, 14, 15, 0},
-		{equals, 15, 16, 0}, {other, 16, 17, 0}, {other, 17, 18, 0}, {end, 18, 18, 0}, {end, 18, 18, 0},
+		{equals, 15, 16, 0}, {other, 16, 17, 0}, {bar, 17, 18, 0}, {ampersand, 18, 19, 0}, {tilde, 19, 20, 0}, {opening, 20, 21, 0},
+		{closing, 21, 22, 0}, {leftBracket, 22, 23, 0}, {rightBracket, 23, 24, 0}, {other, 24, 25, 0}, {other, 25, 26, 0},
+		{other, 26, 27, 0}, {end, 27, 27, 0}, {end, 27, 27, 0},
 	}
 	at := 0
 	for _, w := range want {

@@ -13,6 +13,13 @@ const (
 	minus
 	comma
 	equals
+	bar
+	ampersand
+	tilde
+	opening // (
+	closing // )
+	leftBracket
+	rightBracket
 	other // a byte for which there is no place anywhere
 )
 
@@ -56,6 +63,20 @@ func kindOf(c byte) kind {
 		return comma
 	case c == '=':
 		return equals
+	case c == '|':
+		return bar
+	case c == '&':
+		return ampersand
+	case c == '~':
+		return tilde
+	case c == '(':
+		return opening
+	case c == ')':
+		return closing
+	case c == '[':
+		return leftBracket
+	case c == ']':
+		return rightBracket
 	}
 	return other
 }

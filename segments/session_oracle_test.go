@@ -56,6 +56,7 @@ func oracleMultiples() map[inX]map[inX]bool {
 
 type oracleSession struct {
 	systems   map[byte][][]oracleTerm
+	sets      map[byte]bits
 	multiples map[inX]map[inX]bool
 }
 
@@ -122,9 +123,7 @@ func (s *oracleSession) do(line string) (string, api.Errno, int) {
 			break
 		}
 	}
-	switch word {
-	case "let", "print", "gcd", "roots", "split":
-	default:
+	if !strings.Contains(" let print gcd roots split set show has sub ", " "+word+" ") {
 		return "", api.ErrWord, i
 	}
 	i = nonSpace(line, i+len(word))
@@ -133,14 +132,32 @@ func (s *oracleSession) do(line string) (string, api.Errno, int) {
 	}
 	name, place := line[i], i
 	i = nonSpace(line, i+1)
-	if word == "let" {
-		return s.let(name, line, i)
+	switch word {
+	case "let", "set":
+		if i == len(line) || line[i] != '=' {
+			return "", api.ErrForm, i
+		}
+		if word == "let" {
+			return s.let(name, line, i+1)
+		}
+		return s.set(name, line, i+1)
+	case "show", "has", "sub":
+		if _, ok := s.sets[name]; !ok {
+			return "", api.ErrName, place
+		}
+	default:
+		if s.systems[name] == nil {
+			return "", api.ErrName, place
+		}
 	}
-	if s.systems[name] == nil {
-		return "", api.ErrName, place
-	}
-	number := 0
-	if word == "gcd" || word == "roots" {
+	return s.ask(word, name, line, i)
+}
+
+// ask: what is behind the name of a line that changes nothing.
+func (s *oracleSession) ask(word string, name byte, line string, i int) (string, api.Errno, int) {
+	number, second := 0, byte(0)
+	switch word {
+	case "gcd", "roots", "has":
 		digits := 0
 		for ; digits < 2 && i < len(line) && line[i] >= '0' && line[i] <= '9'; digits++ {
 			number = 10*number + int(line[i]-'0')
@@ -149,19 +166,28 @@ func (s *oracleSession) do(line string) (string, api.Errno, int) {
 		if digits == 0 {
 			return "", api.ErrForm, i
 		}
-		i = nonSpace(line, i)
+	case "sub":
+		if i == len(line) || line[i] < 'A' || line[i] > 'Z' {
+			return "", api.ErrForm, i
+		}
+		second = line[i]
+		if _, ok := s.sets[second]; !ok {
+			return "", api.ErrName, i
+		}
+		i++
 	}
+	i = nonSpace(line, i)
 	if i < len(line) {
 		return "", api.ErrForm, i
+	}
+	switch word {
+	case "show", "has", "sub":
+		return answerOfSet(word, s.sets[name], s.sets[second], number), api.OK, 0
 	}
 	return s.answer(word, s.systems[name], number%7), api.OK, 0
 }
 
 func (s *oracleSession) let(name byte, line string, i int) (string, api.Errno, int) {
-	if i == len(line) || line[i] != '=' {
-		return "", api.ErrForm, i
-	}
-	i++
 	var system [][]oracleTerm
 	for _, text := range strings.Split(line[i:], ",") {
 		if len(system) == 4 {
@@ -174,6 +200,7 @@ func (s *oracleSession) let(name byte, line string, i int) (string, api.Errno, i
 		system = append(system, terms)
 		i += len(text) + 1
 	}
+	delete(s.sets, name)
 	s.systems[name] = system
 	return "", api.OK, 0
 }
@@ -229,7 +256,7 @@ func holdLine(t *testing.T, s *Session, o *oracleSession, line string) {
 }
 
 func newPair() (*Session, *oracleSession) {
-	return New(), &oracleSession{systems: map[byte][][]oracleTerm{}}
+	return New(), &oracleSession{systems: map[byte][][]oracleTerm{}, sets: map[byte]bits{}}
 }
 
 func TestAllShortLines(t *testing.T) { // P1, P2, P5, P6

@@ -48,7 +48,7 @@ func TestSessionExamples(t *testing.T) { // P5 to P9: the document's examples
 
 func TestNilSession(t *testing.T) { // P1
 	var none *Session
-	for _, line := range []string{"", "foo", "let A=1", "print A", strings.Repeat(" ", 91)} {
+	for _, line := range []string{"", "foo", "let A=1", "print A", "set A=[u]", "show A", strings.Repeat(" ", 91)} {
 		refuseLines(t, none, []refused{{line, api.ErrNil, 0}})
 	}
 }
@@ -57,7 +57,7 @@ func TestNewSessionHasNoNames(t *testing.T) { // P5
 	s := New()
 	for c := 'A'; c <= 'Z'; c++ {
 		n := string(c)
-		refuseLines(t, s, []refused{{"print " + n, api.ErrName, 6}, {"gcd " + n + " 1", api.ErrName, 4}, {"roots " + n + " 1", api.ErrName, 6}, {"split " + n, api.ErrName, 6}})
+		refuseLines(t, s, []refused{{"print " + n, api.ErrName, 6}, {"gcd " + n + " 1", api.ErrName, 4}, {"roots " + n + " 1", api.ErrName, 6}, {"split " + n, api.ErrName, 6}, {"show " + n, api.ErrName, 5}, {"has " + n + " 1", api.ErrName, 4}, {"sub " + n + n, api.ErrName, 4}, {"set A=" + n, api.ErrName, 6}})
 	}
 }
 

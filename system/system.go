@@ -7,6 +7,7 @@ import (
 
 	"segments/api"
 	"segments/poly"
+	"segments/set"
 )
 
 // System is 1 to MaxPolys polynomials.
@@ -32,13 +33,7 @@ func (s System) Divisor(u int) poly.Poly {
 
 // Roots is the text of the values of x at which the whole system is 0 at this u.
 func (s System) Roots(u int) string {
-	var roots []int
-	for x := range api.Prime {
-		if s.isZero(u, x) {
-			roots = append(roots, x)
-		}
-	}
-	return list(roots)
+	return set.Where(func(x int) bool { return s.isZero(u, x) }).Text()
 }
 
 func (s System) isZero(u, x int) bool {
@@ -52,14 +47,14 @@ func (s System) isZero(u, x int) bool {
 
 // Split is the text of the segments: the values of u by the divisor's degree.
 func (s System) Split() string {
-	var byDegree [api.MaxX + 1][]int
-	var all []int
+	var byDegree [api.MaxX + 1]set.Set
+	var all set.Set
 	for u := range api.Prime {
 		degree := s.Divisor(u).Degree()
 		if degree == poly.None {
-			all = append(all, u)
+			all[u] = true
 		} else {
-			byDegree[degree] = append(byDegree[degree], u)
+			byDegree[degree][u] = true
 		}
 	}
 	var texts []string
@@ -70,17 +65,9 @@ func (s System) Split() string {
 }
 
 // appendSegment leaves out a segment to which no value belongs.
-func appendSegment(texts []string, degree string, values []int) []string {
-	if len(values) == 0 {
+func appendSegment(texts []string, degree string, values set.Set) []string {
+	if values == (set.Set{}) {
 		return texts
 	}
-	return append(texts, degree+": "+list(values))
-}
-
-func list(values []int) string {
-	var texts []string
-	for _, value := range values {
-		texts = append(texts, strconv.Itoa(value))
-	}
-	return strings.Join(texts, " ")
+	return append(texts, degree+": "+values.Text())
 }
